@@ -1,4 +1,4 @@
-// Package lines has what files of sequences and of reads are made of: lines, titles, letters. See shared/doc/02-fasta.md, section Words.
+// Package lines has what files of sequences and of reads are made of: lines, titles, letters, signs. See shared/doc/02-fasta.md, section Words.
 package lines
 
 import (
@@ -37,7 +37,7 @@ func (r *Reader) Number() int { return r.number }
 
 // IsName tells whether s is a name.
 func IsName(s string) bool {
-	return s != "" && len(s) <= api.MaxTitle && between(s, '!', '~') && strings.IndexByte("@*=", s[0]) < 0
+	return s != "" && len(s) <= api.MaxTitle && AreSigns(s) && strings.IndexByte("@*=", s[0]) < 0
 }
 
 // IsNote tells whether s is a note.
@@ -77,6 +77,9 @@ func AreLetters(s string) bool {
 func AreBases(s string) bool {
 	return s != "" && len(s) <= api.MaxBases && AreLetters(s)
 }
+
+// AreSigns tells whether each byte of s is a sign that can be seen, such as names and a read's signs are made of.
+func AreSigns(s string) bool { return between(s, '!', '~') }
 
 func isLetter(c byte) bool {
 	return c >= 'A' && c <= 'Z' || c >= 'a' && c <= 'z'

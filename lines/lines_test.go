@@ -128,3 +128,18 @@ func TestLetters(t *testing.T) {
 		t.Errorf("65536 letters may be a sequence's, 65537 not")
 	}
 }
+
+func TestSigns(t *testing.T) {
+	for c := range 256 {
+		one := string([]byte{byte(c)})
+		want := c >= 33 && c <= 126
+		for _, s := range []string{one, "I" + one, one + "I"} {
+			if lines.AreSigns(s) != want {
+				t.Errorf("signs %q: %v, want %v", s, !want, want)
+			}
+		}
+	}
+	if !lines.AreSigns("") || !lines.AreSigns(strings.Repeat("~", 70000)) {
+		t.Errorf("nothing has no byte that is no sign, and signs may be many")
+	}
+}
