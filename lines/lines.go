@@ -1,4 +1,4 @@
-// Package lines has what files of sequences and of reads are made of: lines, titles, letters, signs. See shared/doc/02-fasta.md, section Words.
+// Package lines has what files of sequences, of reads and of records are made of: lines, titles, letters, signs. See shared/doc/02-fasta.md, section Words.
 package lines
 
 import (
@@ -76,6 +76,11 @@ func AreLetters(s string) bool {
 // AreBases tells whether s may be the letters of a sequence or read.
 func AreBases(s string) bool {
 	return s != "" && len(s) <= api.MaxBases && AreLetters(s)
+}
+
+// MayBeWritten tells whether a sequence may.
+func MayBeWritten(s api.Seq) bool {
+	return IsName(s.Name) && IsNote(s.Note) && AreBases(s.Bases)
 }
 
 // AreSigns tells whether each byte of s is a sign that can be seen, such as names and a read's signs are made of.

@@ -5,6 +5,7 @@ import (
 	"strings"
 	"testing"
 
+	"helix/api"
 	"helix/lines"
 )
 
@@ -141,5 +142,18 @@ func TestSigns(t *testing.T) {
 	}
 	if !lines.AreSigns("") || !lines.AreSigns(strings.Repeat("~", 70000)) {
 		t.Errorf("nothing has no byte that is no sign, and signs may be many")
+	}
+}
+
+func TestMayBeWritten(t *testing.T) {
+	for _, s := range []api.Seq{{Name: "a", Bases: "A"}, {Name: "a", Note: "x y", Bases: "acGT"}, {Name: ">", Note: "@", Bases: strings.Repeat("z", 65536)}} {
+		if !lines.MayBeWritten(s) {
+			t.Errorf("%.80q may be written", s)
+		}
+	}
+	for _, s := range []api.Seq{{}, {Name: "a"}, {Bases: "A"}, {Name: "@", Bases: "A"}, {Name: "a", Note: " ", Bases: "A"}, {Name: "a", Bases: "A1"}, {Name: "a", Bases: strings.Repeat("z", 65537)}} {
+		if lines.MayBeWritten(s) {
+			t.Errorf("%.80q may not be written", s)
+		}
 	}
 }
